@@ -10,6 +10,7 @@ import (
 
 	"tipstave/api"
 	"tipstave/entity"
+	"tipstave/testaid"
 )
 
 // mayBe tells by chapter 1's own numbers which characters may be.
@@ -140,36 +141,21 @@ func check(t *testing.T, s string) {
 	}
 }
 
-// everyText tells all texts of up to so many pieces.
-func everyText(pieces []string, most int, tell func(string)) {
-	row := []string{""}
-	for range most + 1 {
-		var longer []string
-		for _, s := range row {
-			tell(s)
-			for _, p := range pieces {
-				longer = append(longer, s+p)
-			}
-		}
-		row = longer
-	}
-}
-
 // P3.1, P3.2, P3.3: all texts of few pieces, of which references and lines' ends come about.
 func TestEveryText(t *testing.T) {
-	everyText([]string{"&", "#", "x", "6", "d", ";", "amp", "\r", "\n", "\t", "<", "\u00e4", "\xff"}, 4, func(s string) { check(t, s) })
+	testaid.EveryText([]string{"&", "#", "x", "6", "d", ";", "amp", "\r", "\n", "\t", "<", "\u00e4", "\xff"}, 4, func(s string) { check(t, s) })
 }
 
 // P3.1: all texts of few pieces behind what begins a number.
 func TestEveryNumberLike(t *testing.T) {
 	for _, ahead := range []string{"&#", "&#x", "a&#x", "&#6"} {
-		everyText([]string{"0", "9", "a", "F", "g", "_", "+", "-", " ", ";", "x", "&"}, 3, func(s string) { check(t, ahead+s+";") })
+		testaid.EveryText([]string{"0", "9", "a", "F", "g", "_", "+", "-", " ", ";", "x", "&"}, 3, func(s string) { check(t, ahead+s+";") })
 	}
 }
 
 // P3.1: all blanks that stand themselves, and those that references tell, side by side.
 func TestEveryBlank(t *testing.T) {
-	everyText([]string{"\t", "\n", "\r", " ", "&#9;", "&#10;", "&#xD;", "a"}, 5, func(s string) { check(t, s) })
+	testaid.EveryText([]string{"\t", "\n", "\r", " ", "&#9;", "&#10;", "&#xD;", "a"}, 5, func(s string) { check(t, s) })
 }
 
 // P3.1, P3.2, P3.3: each character, itself and by its numbers.

@@ -8,6 +8,7 @@ import (
 
 	"tipstave/api"
 	"tipstave/names"
+	"tipstave/testaid"
 )
 
 // keys are the chapter's keywords, in the order of their bytes.
@@ -98,29 +99,14 @@ func checkWords(t *testing.T, s string) {
 	}
 }
 
-// everyText tells all texts of up to so many pieces.
-func everyText(pieces []string, most int, tell func(string)) {
-	row := []string{""}
-	for range most + 1 {
-		var longer []string
-		for _, s := range row {
-			tell(s)
-			for _, p := range pieces {
-				longer = append(longer, s+p)
-			}
-		}
-		row = longer
-	}
-}
-
 // P2.1, P2.2: all texts of few pieces, bytes and characters at which something changes.
 func TestEveryText(t *testing.T) {
-	everyText([]string{"a", "Z", "_", "7", "-", ".", ":", " ", "\u00b7", "\u00e4", "\u00d7", "\ufffd", "if", "\xff", "\xc3", "\t"}, 4, func(s string) { check(t, s) })
+	testaid.EveryText([]string{"a", "Z", "_", "7", "-", ".", ":", " ", "\u00b7", "\u00e4", "\u00d7", "\ufffd", "if", "\xff", "\xc3", "\t"}, 4, func(s string) { check(t, s) })
 }
 
 // P2.1, P2.2: words, keywords and what may stand between.
 func TestEveryName(t *testing.T) {
-	everyText([]string{"a", "in", "not", "nota", " ", "  ", "\u00a0", ":", "1"}, 5, func(s string) { check(t, s) })
+	testaid.EveryText([]string{"a", "in", "not", "nota", " ", "  ", "\u00a0", ":", "1"}, 5, func(s string) { check(t, s) })
 }
 
 // P2.1: each character as the first one, and as another one.

@@ -12,6 +12,7 @@ import (
 
 	"tipstave/api"
 	"tipstave/entity"
+	"tipstave/testaid"
 	"tipstave/xmltok"
 )
 
@@ -87,35 +88,20 @@ func written(l []api.Token) string {
 	return s
 }
 
-// everyText tells all texts of up to so many pieces.
-func everyText(pieces []string, most int, tell func(string)) {
-	row := []string{""}
-	for range most + 1 {
-		var longer []string
-		for _, s := range row {
-			tell(s)
-			for _, p := range pieces {
-				longer = append(longer, s+p)
-			}
-		}
-		row = longer
-	}
-}
-
 // P4.1, P4.3: all texts of few pieces, of which all kinds of tokens begin.
 func TestEveryText(t *testing.T) {
-	everyText([]string{"<", ">", "/", "a", ":", "=", "\"", " ", "?xml", "?", "!", "--", "-", "[CDATA[", "]]", "]", "\r", "&"}, 4, func(s string) { check(t, s) })
+	testaid.EveryText([]string{"<", ">", "/", "a", ":", "=", "\"", " ", "?xml", "?", "!", "--", "-", "[CDATA[", "]]", "]", "\r", "&"}, 4, func(s string) { check(t, s) })
 }
 
 // P4.1, P4.3: all texts of few pieces behind what each kind begins with, and where nothing of that kind may stand any more.
 func TestEveryBehind(t *testing.T) {
 	tag := []string{" ", "b", ":", "=", "'", "\"", ">", "/", "<", "1", "&", "\n"}
 	for _, ahead := range []string{"<a", "<a b", "<a b=", "<a b='", "<a b='1'", "<a b='1' b='2'", "</a", "t</"} {
-		everyText(tag, 4, func(s string) { check(t, ahead+s) })
+		testaid.EveryText(tag, 4, func(s string) { check(t, ahead+s) })
 	}
 	loose := []string{"-", "--", ">", "->", "]", "]]", "?", "?>", "\r", "\n", "<", "&", "a"}
 	for _, ahead := range []string{"<!--", "<a/><!--", "<![CDATA[", "t<![CDATA[", "<?xml ", "<?xml\n", " <?xml ", "<", "<!", "<!-", "<![CDATA"} {
-		everyText(loose, 4, func(s string) { check(t, ahead+s) })
+		testaid.EveryText(loose, 4, func(s string) { check(t, ahead+s) })
 	}
 }
 

@@ -3,7 +3,6 @@ package xmltree_test
 import (
 	"regexp"
 	"slices"
-	"strconv"
 	"strings"
 
 	"tipstave/api"
@@ -170,38 +169,4 @@ func element(l []api.Token, i int) (api.Node, int) {
 		i++
 	}
 	return n, i + 1
-}
-
-// show is all of a node as a text, its place too: {u}a@0[{v}x=1](..) of an element, "t"@3 of a text node, and all that neither has, where it has it.
-func show(n api.Node) string {
-	s := ""
-	if n.Name != (api.Name{}) {
-		s += showName(n.Name)
-	}
-	if n.Text != "" {
-		s += strconv.Quote(n.Text)
-	}
-	s += "@" + strconv.Itoa(n.At)
-	if len(n.Attrs) > 0 {
-		var l []string
-		for _, a := range n.Attrs {
-			l = append(l, showName(a.Name)+"="+a.Value)
-		}
-		s += "[" + strings.Join(l, ", ") + "]"
-	}
-	if len(n.Kids) > 0 {
-		var l []string
-		for _, k := range n.Kids {
-			l = append(l, show(k))
-		}
-		s += "(" + strings.Join(l, ", ") + ")"
-	}
-	return s
-}
-
-func showName(n api.Name) string {
-	if n.Space == "" {
-		return n.Local
-	}
-	return "{" + n.Space + "}" + n.Local
 }

@@ -12,6 +12,7 @@ import (
 	"testing"
 
 	"tipstave/api"
+	"tipstave/testaid"
 	"tipstave/xmltok"
 	"tipstave/xmltree"
 )
@@ -21,11 +22,11 @@ func check(t *testing.T, l []api.Token, end int) {
 	t.Helper()
 	want, wat, we := told(l, end)
 	n, at, e := xmltree.Build(l, end)
-	if show(n) != show(want) || at != wat || e != we {
-		t.Fatalf("%v, %d: %s %d %v, not %s %d %v", l, end, show(n), at, e, show(want), wat, we)
+	if testaid.Node(n) != testaid.Node(want) || at != wat || e != we {
+		t.Fatalf("%v, %d: %s %d %v, not %s %d %v", l, end, testaid.Node(n), at, e, testaid.Node(want), wat, we)
 	}
 	if !xmltree.Same(n, want) || !xmltree.Same(want, n) {
-		t.Fatalf("%v: not the same as itself: %s", l, show(n))
+		t.Fatalf("%v: not the same as itself: %s", l, testaid.Node(n))
 	}
 }
 
@@ -38,8 +39,8 @@ func checkBytes(t *testing.T, s string) {
 		want, wat, we = told(l, len(s))
 	}
 	n, at, e := xmltree.Read([]byte(s))
-	if show(n) != show(want) || at != wat || e != we {
-		t.Fatalf("%q: %s %d %v, not %s %d %v", s, show(n), at, e, show(want), wat, we)
+	if testaid.Node(n) != testaid.Node(want) || at != wat || e != we {
+		t.Fatalf("%q: %s %d %v, not %s %d %v", s, testaid.Node(n), at, e, testaid.Node(want), wat, we)
 	}
 	if at < 0 || at > len(s) { // P6
 		t.Fatalf("%q: the place %d", s, at)
@@ -94,8 +95,8 @@ func TestRead(t *testing.T) {
 		{"<p:a xmlns:p='u' xmlns:q='u' xmlns='u'><q:b/><c/></p:a>", "{u}a@0({u}b@39, {u}c@45)"},
 	} {
 		n, at, e := xmltree.Read([]byte(c.s))
-		if show(n) != c.want || at != len(c.s) || e != api.OK {
-			t.Errorf("%q: %s %d %v, not %s", c.s, show(n), at, e, c.want)
+		if testaid.Node(n) != c.want || at != len(c.s) || e != api.OK {
+			t.Errorf("%q: %s %d %v, not %s", c.s, testaid.Node(n), at, e, c.want)
 		}
 		checkBytes(t, c.s)
 	}
@@ -133,12 +134,12 @@ func TestWrong(t *testing.T) {
 	} {
 		n, at, e := xmltree.Read([]byte(c.s))
 		if !reflect.DeepEqual(n, api.Node{}) || at != c.at || e != c.want {
-			t.Errorf("%q: %s %d %v, not %d %v", c.s, show(n), at, e, c.at, c.want)
+			t.Errorf("%q: %s %d %v, not %d %v", c.s, testaid.Node(n), at, e, c.at, c.want)
 		}
 		checkBytes(t, c.s)
 	}
 	if n, at, e := xmltree.Read(bytes.Repeat([]byte("<"), api.MaxBytes+1)); !reflect.DeepEqual(n, api.Node{}) || at != 0 || e != api.ErrLong {
-		t.Errorf("%s %d %v", show(n), at, e)
+		t.Errorf("%s %d %v", testaid.Node(n), at, e)
 	}
 }
 
@@ -155,30 +156,15 @@ func TestDepth(t *testing.T) {
 		}
 		for range 198 {
 			if n.Name.Local != "a" || len(n.Kids) != 1 {
-				t.Fatal(show(n))
+				t.Fatal(testaid.Node(n))
 			}
 			n = n.Kids[0]
 		}
-		if want := "a@594(" + c.want + ")"; show(n) != want {
-			t.Errorf("%s, not %s", show(n), want)
+		if want := "a@594(" + c.want + ")"; testaid.Node(n) != want {
+			t.Errorf("%s, not %s", testaid.Node(n), want)
 		}
 		checkBytes(t, s)
 	}
-}
-
-// everyRow tells all rows of up to so many of the pieces.
-func everyRow[T any](pieces []T, most int, tell func([]T)) {
-	var grow func(row []T)
-	grow = func(row []T) {
-		tell(row)
-		if len(row) == most {
-			return
-		}
-		for _, x := range pieces {
-			grow(append(slices.Clip(row), x))
-		}
-	}
-	grow(nil)
 }
 
 // inRow are tokens, each at a place of its own.
@@ -213,7 +199,7 @@ func text(s string) api.Token { return api.Token{Kind: api.Text, S: s} }
 // P5.1: all lists of few tokens: what stands in what.
 func TestEveryList(t *testing.T) {
 	tokens := []api.Token{text(" "), text("t"), tag(api.Open, "a"), tag(api.Open, "b"), tag(api.Empty, "a"), tag(api.Empty, "p:b"), tag(api.Close, "a"), tag(api.Close, "b")}
-	everyRow(tokens, 6, func(l []api.Token) { check(t, inRow(l), 1000) })
+	testaid.EveryRow(tokens, 6, func(l []api.Token) { check(t, inRow(l), 1000) })
 }
 
 // P5.1: all lists of few tokens that give namespaces, and that need them.
@@ -223,7 +209,7 @@ func TestEveryGiver(t *testing.T) {
 		tag(api.Empty, "a", "p:x=1", "x=2"), tag(api.Empty, "p:a", "xmlns:q=u", "p:x=1", "q:x=2"), tag(api.Empty, "a", "q:x=1", "xmlns:p="), tag(api.Empty, "q:a", "xmlns=v"),
 		tag(api.Close, "a"), tag(api.Close, "p:a"), tag(api.Close, "q:a"),
 	}
-	everyRow(tokens, 5, func(l []api.Token) { check(t, inRow(l), 1000) })
+	testaid.EveryRow(tokens, 5, func(l []api.Token) { check(t, inRow(l), 1000) })
 }
 
 // P5.1: all rows of up to three attributes, in an element within one that gives a namespace.
@@ -238,7 +224,7 @@ func TestEveryAttribute(t *testing.T) {
 			attrs = append(attrs, name+"="+v)
 		}
 	}
-	everyRow(attrs, 3, func(row []string) {
+	testaid.EveryRow(attrs, 3, func(row []string) {
 		for _, name := range []string{"a", "p:a", "q:a", "xml:a", "xmlns:a"} {
 			x := tag(api.Empty, name, row...)
 			if _, _, e := xmltok.Write(x); e != api.OK { // an attribute stands twice, as written
@@ -252,9 +238,9 @@ func TestEveryAttribute(t *testing.T) {
 // P5.2: all texts of few pieces are layer 4's tokens, and the tree of these.
 func TestEveryText(t *testing.T) {
 	pieces := []string{"<a>", "</a>", "<a xmlns='u'>", "<p:a xmlns:p='u' p:b='1'>", "</p:a>", "<p:a b='1'/>", " ", "t", "&lt;", "<![CDATA[ ]]>", "<!-- c -->", "<", "\xff"}
-	everyRow(pieces, 4, func(l []string) { checkBytes(t, strings.Join(l, "")) })
+	testaid.EveryRow(pieces, 4, func(l []string) { checkBytes(t, strings.Join(l, "")) })
 	for _, ahead := range []string{"<a>", "<a xmlns='u'>t", "<a><a>"} {
-		everyRow(pieces, 3, func(l []string) { checkBytes(t, ahead+strings.Join(l, "")+"</a>") })
+		testaid.EveryRow(pieces, 3, func(l []string) { checkBytes(t, ahead+strings.Join(l, "")+"</a>") })
 	}
 }
 
@@ -330,8 +316,8 @@ func TestPlaces(t *testing.T) {
 			{[]api.Token{tag(api.Empty, "b")}, max(at, 0), "b@0", max(at, 0), api.OK},
 			{[]api.Token{tag(api.Open, "b")}, max(at, 0), "@0", max(at, 0), api.ErrShort},
 		} {
-			if n, k, e := xmltree.Build(c.l, c.end); show(n) != c.want || k != c.at || e != c.e {
-				t.Errorf("%v: %s %d %v, not %s %d %v", c.l, show(n), k, e, c.want, c.at, c.e)
+			if n, k, e := xmltree.Build(c.l, c.end); testaid.Node(n) != c.want || k != c.at || e != c.e {
+				t.Errorf("%v: %s %d %v, not %s %d %v", c.l, testaid.Node(n), k, e, c.want, c.at, c.e)
 			}
 		}
 	}
@@ -345,7 +331,7 @@ func TestOdd(t *testing.T) {
 			tokens = append(tokens, api.Token{Kind: kind, S: name}, tag(kind, name, name+"=1", name+"=1", "xmlns:=u", "xmlns=v", "xmlns=", "=", ":="))
 		}
 	}
-	everyRow(tokens, 2, func(l []api.Token) {
+	testaid.EveryRow(tokens, 2, func(l []api.Token) {
 		for _, end := range []int{math.MinInt, -1, 0} {
 			xmltree.Build(l, end)
 			xmltree.Build(append([]api.Token{tag(api.Open, "a")}, append(l, tag(api.Close, "a"))...), end)
@@ -397,10 +383,10 @@ func TestSame(t *testing.T) {
 		other := tree()
 		c.change(&other)
 		if xmltree.Same(tree(), other) != c.want || xmltree.Same(other, tree()) != c.want {
-			t.Errorf("%d: %s isn't %v", i, show(other), c.want)
+			t.Errorf("%d: %s isn't %v", i, testaid.Node(other), c.want)
 		}
 		if !xmltree.Same(other, other) {
-			t.Errorf("%d: %s isn't the same as itself", i, show(other))
+			t.Errorf("%d: %s isn't the same as itself", i, testaid.Node(other))
 		}
 	}
 	// as many nodes, of the same names in the same order, but another one in another one
@@ -428,7 +414,7 @@ func TestFind(t *testing.T) {
 		for _, k := range l {
 			got = append(got, k.At)
 			if !slices.ContainsFunc(n.Kids, func(x api.Node) bool { return reflect.DeepEqual(x, k) }) {
-				t.Errorf("%s is no child", show(k))
+				t.Errorf("%s is no child", testaid.Node(k))
 			}
 		}
 		if !slices.Equal(got, c.want) {
@@ -555,13 +541,13 @@ func TestLists(t *testing.T) {
 	want, _, _ := told(fresh()[:8], 800)
 	l := fresh()
 	one, at, e := xmltree.Build(l[:8], 800)
-	if at != 800 || e != api.OK || show(one) != show(want) {
-		t.Fatalf("%s %d %v", show(one), at, e)
+	if at != 800 || e != api.OK || testaid.Node(one) != testaid.Node(want) {
+		t.Fatalf("%s %d %v", testaid.Node(one), at, e)
 	}
 	two, _, _ := xmltree.Build(l[:8], 800)
 	spoil(&one)
-	if show(two) != show(want) {
-		t.Errorf("it hangs on another answer: %s", show(two))
+	if testaid.Node(two) != testaid.Node(want) {
+		t.Errorf("it hangs on another answer: %s", testaid.Node(two))
 	}
 	if !reflect.DeepEqual(l, fresh()) || !reflect.DeepEqual(l[3].Attrs[:4], fresh()[3].Attrs[:4]) {
 		t.Errorf("what was handed in is changed: %v", l)
@@ -572,8 +558,8 @@ func TestLists(t *testing.T) {
 		}
 		l[i] = text("#")
 	}
-	if show(two) != show(want) {
-		t.Errorf("it hangs on the tokens: %s", show(two))
+	if testaid.Node(two) != testaid.Node(want) {
+		t.Errorf("it hangs on the tokens: %s", testaid.Node(two))
 	}
 }
 
@@ -581,15 +567,15 @@ func TestLists(t *testing.T) {
 func TestApart(t *testing.T) {
 	s := []byte("<a x='1' y='2'><b z='3'/><b w='4'>t<c/></b>u</a>>>")
 	n, at, e := xmltree.Read(s[:len(s)-2])
-	want := show(n)
+	want := testaid.Node(n)
 	if at != len(s)-2 || e != api.OK {
 		t.Fatal(at, e)
 	}
 	for i := range s {
 		s[i] = '#'
 	}
-	if show(n) != want {
-		t.Errorf("it hangs on the bytes: %s", show(n))
+	if testaid.Node(n) != want {
+		t.Errorf("it hangs on the bytes: %s", testaid.Node(n))
 	}
 	grow := func(x *api.Node) {
 		_ = append(x.Attrs, api.Attr{Value: "#"}, api.Attr{Value: "#"})
@@ -599,18 +585,18 @@ func TestApart(t *testing.T) {
 	for i := range n.Kids {
 		grow(&n.Kids[i])
 	}
-	if show(n) != want {
-		t.Errorf("one list hangs on another: %s", show(n))
+	if testaid.Node(n) != want {
+		t.Errorf("one list hangs on another: %s", testaid.Node(n))
 	}
 }
 
 // Rule 4: Find, Same, Text and Value change nothing, and read nothing behind a list's length; Find's list is new.
 func TestAsked(t *testing.T) {
 	n := tree()
-	whole := show(n)
+	whole := testaid.Node(n)
 	n.Kids = append(n.Kids, api.Node{Text: "#"}, api.Node{Name: api.Name{Local: "b"}})[:3]
 	n.Attrs = append(n.Attrs, api.Attr{Name: api.Name{Local: "z"}, Value: "#"})[:2]
-	behind := show(api.Node{Kids: n.Kids[3:5], Attrs: n.Attrs[2:3]})
+	behind := testaid.Node(api.Node{Kids: n.Kids[3:5], Attrs: n.Attrs[2:3]})
 	b := api.Name{Local: "b"}
 	one, two := xmltree.Find(n, b), xmltree.Find(n, b)
 	if len(one) != 1 || len(two) != 1 || xmltree.Text(n) != "tuw" || !xmltree.Same(n, tree()) {
@@ -620,7 +606,7 @@ func TestAsked(t *testing.T) {
 		t.Error(v, ok)
 	}
 	one[0] = api.Node{Text: "#"}
-	if show(n) != whole || two[0].Name != b || show(api.Node{Kids: n.Kids[3:5], Attrs: n.Attrs[2:3]}) != behind {
-		t.Errorf("changed: %s", show(n))
+	if testaid.Node(n) != whole || two[0].Name != b || testaid.Node(api.Node{Kids: n.Kids[3:5], Attrs: n.Attrs[2:3]}) != behind {
+		t.Errorf("changed: %s", testaid.Node(n))
 	}
 }
