@@ -49,6 +49,18 @@ func Node(n api.Node) string {
 	return s + row("[", attrs, "]") + row("(", kids, ")")
 }
 
+// Expr is all of an expression as a text: 5"+"(3"a", 0"1") of a sum, 15""["a"](..) of a function with a name.
+func Expr(x api.Expr) string {
+	var names, parts []string
+	for _, name := range x.Names {
+		names = append(names, strconv.Quote(name))
+	}
+	for _, part := range x.L {
+		parts = append(parts, Expr(part))
+	}
+	return strconv.Itoa(x.Kind) + strconv.Quote(x.S) + row("[", names, "]") + row("(", parts, ")")
+}
+
 func name(n api.Name) string {
 	if n.Space == "" {
 		return n.Local
