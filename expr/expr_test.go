@@ -5,7 +5,6 @@ import (
 	"math/rand"
 	"runtime/debug"
 	"slices"
-	"strconv"
 	"strings"
 	"sync"
 	"testing"
@@ -17,31 +16,12 @@ import (
 	"tipstave/testaid"
 )
 
-func of(kind int, s string, l ...api.Expr) api.Expr { return api.Expr{Kind: kind, S: s, L: l} }
-
-func name(s string) api.Expr { return of(api.NameExpr, s) }
-
-func num(s string) api.Expr { return of(api.NumExpr, s) }
-
-func list(l ...api.Expr) api.Expr { return of(api.ListExpr, "", l...) }
-
-func function(x api.Expr, names ...string) api.Expr {
-	return api.Expr{Kind: api.FuncExpr, Names: names, L: []api.Expr{x}}
-}
-
-// maps is a MapExpr of names and their parts.
-func maps(names []string, l ...api.Expr) api.Expr {
-	return api.Expr{Kind: api.MapExpr, Names: names, L: l}
-}
-
-// numbered are so many names that have nothing but their number behind a text.
-func numbered(text string, n int) []string {
-	l := make([]string, n)
-	for i := range l {
-		l[i] = text + strconv.Itoa(i)
-	}
-	return l
-}
+var (
+	of, name, num, list   = testaid.Of, testaid.Name, testaid.Num, testaid.List
+	function, maps, chain = testaid.Function, testaid.Map, testaid.Chain
+	right, faults         = testaid.RightExprs, testaid.WrongExprs
+	numbered, shown       = testaid.Numbered, testaid.Shown
+)
 
 func scopeOf(t *testing.T, l ...string) *scope.Scope {
 	t.Helper()
@@ -50,11 +30,6 @@ func scopeOf(t *testing.T, l ...string) *scope.Scope {
 		t.Fatalf("New(%.80q): %d", l, e)
 	}
 	return s
-}
-
-func shown(x api.Expr) string {
-	s := testaid.Expr(x)
-	return s[:min(len(s), 200)]
 }
 
 func holdCheck(t *testing.T, x api.Expr) {
@@ -152,16 +127,6 @@ func TestKinds(t *testing.T) {
 	}
 }
 
-// right is a right expression of each kind, in the order of the kinds.
-func right() []api.Expr {
-	one, a := num("1"), name("a")
-	return []api.Expr{
-		one, of(1, "x y\n"), of(2, "true"), a, of(4, "", one), of(5, "+", one, a), of(6, "", a, one, one), of(7, "", a, one), of(8, "net price", a), of(9, "", a, name("item")),
-		of(10, "", a, one, one), of(11, "", a, one, one), of(12, "x", a, name("x")), of(13, "x", a, name("x")), of(14, "x", a, name("x")), function(name("p"), "p", "q"),
-		list(a, one), maps([]string{"k", "m"}, one, a), of(18, "(]", one, a), of(19, "<=", one),
-	}
-}
-
 // P10.1: one of each kind is right, and a test where it may stand alone.
 func TestRight(t *testing.T) {
 	for kind, x := range right() {
@@ -255,15 +220,6 @@ func TestLongNumbers(t *testing.T) {
 	}
 }
 
-// faults are wrong expressions, one of each error, and by each thing that is asked.
-func faults() []api.Expr {
-	one := num("1")
-	return []api.Expr{
-		of(20, ""), of(-1, "", one), num("1.0"), num(""), of(0, "1", one), of(1, "", one), of(2, "no"), of(4, "-", one), of(5, "xor", one, one), of(11, "", one), list(of(19, "<", one)), of(19, "=", one),
-		of(18, "][", one, one), maps([]string{"a"}), {Kind: 16, Names: []string{"a"}}, name("if"), of(12, "", one, one), function(one, "a", "", "a"), function(one, "a", "a"), maps([]string{"a", "b", "a"}, one, one, one), of(1, "\xff"),
-	}
-}
-
 // P10.1: of two faults that is told which stands ahead, an expression ahead of its parts.
 func TestFirstFault(t *testing.T) {
 	one := num("1")
@@ -328,14 +284,6 @@ func TestOrder(t *testing.T) {
 	}
 }
 
-// chain is an expression within so many others, one in the other.
-func chain(n int, x api.Expr) api.Expr {
-	for range n {
-		x = of(api.NegExpr, "", x)
-	}
-	return x
-}
-
 // P10.1, P10.3: depth, up to the limit and beyond, by whichever part of each kind.
 func TestDeep(t *testing.T) {
 	for n := 196; n <= 204; n++ {
@@ -368,7 +316,7 @@ func anyExpr(r *rand.Rand, deep int) api.Expr {
 		all := faults()
 		return all[r.Intn(len(all))]
 	}
-	return anyRight(r, deep, anyExpr)
+	return testaid.AnyExpr(r.Intn, deep, func(deep int) api.Expr { return anyExpr(r, deep) })
 }
 
 func anyName(r *rand.Rand) string {
@@ -377,35 +325,8 @@ func anyName(r *rand.Rand) string {
 }
 
 // noFault is a right expression by chance.
-func noFault(r *rand.Rand, deep int) api.Expr { return anyRight(r, deep, noFault) }
-
-// anyRight is an expression by chance, with nothing wrong but what its parts have.
-func anyRight(r *rand.Rand, deep int, part func(*rand.Rand, int) api.Expr) api.Expr {
-	kind := r.Intn(19)
-	if deep <= 1 || r.Intn(4) == 0 {
-		kind = []int{0, 1, 2, 3, 3, 3}[r.Intn(6)]
-	}
-	x := right()[kind]
-	switch kind {
-	case api.NameExpr, api.PathExpr, api.ForExpr, api.SomeExpr, api.EveryExpr:
-		x.S = anyName(r)
-	case api.CallExpr, api.ListExpr:
-		x.L = slices.Repeat([]api.Expr{num("1")}, r.Intn(4)+1)
-	case api.FuncExpr, api.MapExpr:
-		x.Names = []string{"a", "b", "c", "a b", "item"}
-		r.Shuffle(len(x.Names), func(i, k int) { x.Names[i], x.Names[k] = x.Names[k], x.Names[i] })
-		x.Names = x.Names[:r.Intn(5)]
-	}
-	if kind == api.MapExpr {
-		x.L = make([]api.Expr, len(x.Names))
-	}
-	for i := range x.L {
-		x.L[i] = part(r, deep-1)
-		if kind == api.InExpr && i == 1 && r.Intn(2) == 0 {
-			x.L[i] = of(api.TestExpr, "<", x.L[i])
-		}
-	}
-	return x
+func noFault(r *rand.Rand, deep int) api.Expr {
+	return testaid.AnyExpr(r.Intn, deep, func(deep int) api.Expr { return noFault(r, deep) })
 }
 
 // P10.1, P10.3: expressions by chance, with faults by chance.

@@ -38,15 +38,6 @@ func oneByOne(t *testing.T, l ...string) *scope.Scope {
 	return s
 }
 
-// numbered are so many names that have nothing but their number behind a text.
-func numbered(text string, n int) []string {
-	l := make([]string, n)
-	for i := range l {
-		l[i] = text + strconv.Itoa(i)
-	}
-	return l
-}
-
 // holdNames holds what a scope has against the names that it must have, in their order.
 func holdNames(t *testing.T, s *scope.Scope, all []string) {
 	t.Helper()
@@ -140,7 +131,7 @@ func TestRightNames(t *testing.T) {
 
 // P9.1: as many names as may be, and one more.
 func TestLimit(t *testing.T) {
-	all := numbered("n", api.MaxScope)
+	all := testaid.Numbered("n", api.MaxScope)
 	rising := slices.Sorted(slices.Values(all))
 	full := made(t, all...)
 	holdNames(t, full, rising)
@@ -164,15 +155,15 @@ func TestLimit(t *testing.T) {
 
 // P9.1: no name goes ahead of too many.
 func TestNameAheadOfLong(t *testing.T) {
-	all := numbered("n", api.MaxScope)
+	all := testaid.Numbered("n", api.MaxScope)
 	full := made(t, all...)
 	for _, w := range wrong {
-		for _, l := range [][]string{{"m", w}, {w, "m"}, append(numbered("m", 5000), w)} {
+		for _, l := range [][]string{{"m", w}, {w, "m"}, append(testaid.Numbered("m", 5000), w)} {
 			if more, e := full.With(l...); more != nil || e != api.ErrName {
 				t.Errorf("With(%.80q): %v %d", l, more, e)
 			}
 		}
-		if s, e := scope.New(append(numbered("m", 4097), w)...); s != nil || e != api.ErrName {
+		if s, e := scope.New(append(testaid.Numbered("m", 4097), w)...); s != nil || e != api.ErrName {
 			t.Errorf("New(.., %q): %v %d", w, s, e)
 		}
 	}
@@ -180,7 +171,7 @@ func TestNameAheadOfLong(t *testing.T) {
 
 // P9.1: what is refused changes nothing, so that what may be still is.
 func TestRefused(t *testing.T) {
-	s := made(t, numbered("n", api.MaxScope-1)...)
+	s := made(t, testaid.Numbered("n", api.MaxScope-1)...)
 	for range 3 {
 		if _, e := s.With("a", "b"); e != api.ErrLong {
 			t.Error(e)
@@ -208,8 +199,8 @@ func TestNil(t *testing.T) {
 		holdWith(t, s, nil, nil)
 		holdWith(t, s, nil, []string{"b", "a", "b"})
 		holdWith(t, s, nil, []string{"a", "1"})
-		holdWith(t, s, nil, numbered("n", api.MaxScope))
-		holdWith(t, s, nil, numbered("n", api.MaxScope+1))
+		holdWith(t, s, nil, testaid.Numbered("n", api.MaxScope))
+		holdWith(t, s, nil, testaid.Numbered("n", api.MaxScope+1))
 	}
 	if s, e := none.With(); s == nil || e != api.OK {
 		t.Errorf("With() of nil: %v %d", s, e)
@@ -245,8 +236,8 @@ func TestOrder(t *testing.T) {
 
 // P9.2: who is told names may stop anywhere, begin anew, and be told others meanwhile.
 func TestNamesStop(t *testing.T) {
-	all := slices.Sorted(slices.Values(numbered("n", 40)))
-	for _, s := range []*scope.Scope{made(t, all...), oneByOne(t, numbered("n", 40)...)} {
+	all := slices.Sorted(slices.Values(testaid.Numbered("n", 40)))
+	for _, s := range []*scope.Scope{made(t, all...), oneByOne(t, testaid.Numbered("n", 40)...)} {
 		told := s.Names()
 		for stop := range len(all) + 1 {
 			var got []string
@@ -421,7 +412,7 @@ func TestChance(t *testing.T) {
 
 // P9.1: as many names as may be, one by one: each scope on the way is what it was.
 func TestOneByOneToTheLimit(t *testing.T) {
-	l := numbered("n", api.MaxScope)
+	l := testaid.Numbered("n", api.MaxScope)
 	rand.New(rand.NewSource(2)).Shuffle(len(l), func(i, k int) { l[i], l[k] = l[k], l[i] })
 	made := []*scope.Scope{made(t)}
 	for _, name := range l {
@@ -443,10 +434,10 @@ func TestOneByOneToTheLimit(t *testing.T) {
 // P9.1: two scopes of one have nothing to do with one another.
 func TestForks(t *testing.T) {
 	for _, n := range []int{0, 1, 2, 3, 7, 100} {
-		all := slices.Sorted(slices.Values(numbered("n", n)))
+		all := slices.Sorted(slices.Values(testaid.Numbered("n", n)))
 		s := oneByOne(t, all...)
 		var forks []*scope.Scope
-		for _, name := range numbered("m", 20) {
+		for _, name := range testaid.Numbered("m", 20) {
 			forks = append(forks, with(t, s, name))
 		}
 		for i, f := range forks {
@@ -478,7 +469,7 @@ func TestLists(t *testing.T) {
 
 // One scope is asked, and leads to others, by many at a time.
 func TestSideBySide(t *testing.T) {
-	all := slices.Sorted(slices.Values(append(numbered("n", 50), "n1 n2")))
+	all := slices.Sorted(slices.Values(append(testaid.Numbered("n", 50), "n1 n2")))
 	s := oneByOne(t, all...)
 	var group sync.WaitGroup
 	for g := range 8 {
@@ -523,7 +514,7 @@ func TestLong(t *testing.T) {
 	if got := made(t, words...); got.Len() != 1 {
 		t.Error(got.Len())
 	}
-	if got, e := scope.New(numbered("n", 300000)...); got != nil || e != api.ErrLong {
+	if got, e := scope.New(testaid.Numbered("n", 300000)...); got != nil || e != api.ErrLong {
 		t.Error(e)
 	}
 }
@@ -540,7 +531,7 @@ func TestOften(t *testing.T) {
 			t.Fatal(s.Len())
 		}
 	}
-	full := oneByOne(t, numbered("n", api.MaxScope)...)
+	full := oneByOne(t, testaid.Numbered("n", api.MaxScope)...)
 	for range 1000000 {
 		if name, k := full.Longest("n4000", "n1"); name != "n4000" || k != 1 || full.Has("m") {
 			t.Fatal(name, k)
