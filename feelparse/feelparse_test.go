@@ -19,7 +19,7 @@ var (
 	of, name, num, list   = testaid.Of, testaid.Name, testaid.Num, testaid.List
 	function, maps, chain = testaid.Function, testaid.Map, testaid.Chain
 	shown                 = testaid.Shown
-	rules                 = rulesOf(6)
+	rules                 = testaid.RulesOf(6)
 )
 
 func scopeOf(t *testing.T, l ...string) *scope.Scope {
@@ -52,7 +52,7 @@ func holdAnswer(t *testing.T, s string, names *scope.Scope, want api.Expr, at in
 // hold holds Parse against the chapter, and tells whether the text is right so far: it is all right, or wrong at its end alone.
 func hold(t *testing.T, s string, names ...string) bool {
 	t.Helper()
-	want, at, e := toldParse(rules, lex(t, s), names)
+	want, at, e := testaid.ToldParse(rules, lex(t, s), names)
 	in := scopeOf(t, names...)
 	holdAnswer(t, s, in, want, at, e)
 	if e == api.OK {

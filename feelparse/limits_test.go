@@ -50,7 +50,7 @@ func TestNesting(t *testing.T) {
 	} {
 		for around := 200 - c.most - 1; around <= 201; around++ {
 			s := times(around, "(") + c.s + times(around, ")")
-			want, at, e := toldParse(rules, lex(t, s), []string{"a"})
+			want, at, e := testaid.ToldParse(rules, lex(t, s), []string{"a"})
 			holdAnswer(t, s, in, want, at, e)
 			switch {
 			case around == 200-c.most+1 && (at != around+c.at || e != api.ErrDeep), around <= 200-c.most && e != api.OK, around > 200-c.most && e != api.ErrDeep:
@@ -178,7 +178,7 @@ func TestDeepOrder(t *testing.T) {
 		{"(" + minus(199) + "..a)", 0, api.ErrDeep},
 		{"(" + minus(199) + "..q)", 203, api.ErrScope},
 	} {
-		want, at, e := toldParse(rules, lex(t, c.s), []string{"a"})
+		want, at, e := testaid.ToldParse(rules, lex(t, c.s), []string{"a"})
 		if e != c.e || e != api.OK && at != c.at {
 			t.Errorf("%.20q, %d bytes: the chapter %d %d, not %d %d", c.s, len(c.s), at, e, c.at, c.e)
 		}
@@ -266,7 +266,7 @@ func TestTooManyNames(t *testing.T) {
 		if n != at || e != c.e || e != api.OK && testaid.Expr(x) != testaid.Expr(api.Expr{}) {
 			t.Errorf("%q: %d %d", c.s, n, e)
 		}
-		if want, n, e := toldParse(rules, lex(t, c.s), c.names); n != at || e != c.e || !expr.Same(x, want) {
+		if want, n, e := testaid.ToldParse(rules, lex(t, c.s), c.names); n != at || e != c.e || !expr.Same(x, want) {
 			t.Errorf("%q: the chapter %d %d", c.s, n, e)
 		}
 	}

@@ -36,7 +36,7 @@ func (m *model) call(rule string) (api.Expr, int, api.Errno) {
 	if m.e != api.OK {
 		return api.Expr{}, m.at, m.e
 	}
-	x, at, passed, e := toldNext(rules, rule, m.tokens, m.passed, m.names)
+	x, at, passed, e := testaid.ToldNext(rules, rule, m.tokens, m.passed, m.names)
 	m.passed = passed
 	if e != api.OK {
 		m.at, m.e = at, e
@@ -69,7 +69,7 @@ func holdSteps(t *testing.T, tokens []api.Lex, names []string, pick func(int) in
 			x, at, e := p.Expr()
 			holdCall(t, "Expr", x, at, e, want, wantAt, wantE)
 		case 2, 3:
-			want, wantAt, wantE := m.call("test or expr")
+			want, wantAt, wantE := m.call("part")
 			x, at, e := p.Test()
 			holdCall(t, "Test", x, at, e, want, wantAt, wantE)
 		case 4:

@@ -1,4 +1,4 @@
-package feelparse_test
+package testaid
 
 import (
 	"slices"
@@ -8,11 +8,11 @@ import (
 	"tipstave/number"
 )
 
-// What the calls must answer, by the chapter's own table of what may stand: each alternative is tried at each place, whatever comes of the others, and what is told is what was wrong where most tokens were read.
+// What is read of tokens, by the chapters' own tables of what may stand: each alternative is tried at each place, whatever comes of the others, and what is told is what was wrong where most tokens were read.
 
 // alternative is one of what may stand: which expression it is, and its items, one behind the other:
 //   - 'x is a sign or a keyword; with ^ behind it the nesting is one more from it on, with v one less
-//   - NUM, STR and NAME are tokens that an expression is by itself; WORDS are its S, PARAM is one more of its Names
+//   - NUM, STR and NAME are tokens that an expression is by itself; WORDS are its S, PARAM is one more of its Names; END is the end of all tokens
 //   - +S, +NAMES, +AHEAD (all Names but the last) and +item come into scope
 //   - all others are rules, each of which is a part.
 type alternative struct {
@@ -21,11 +21,17 @@ type alternative struct {
 	items []string
 }
 
-// itself is the kind of what is its part.
-const itself = -1
+// The kinds of what is its part, and of what is parts without being an expression.
+const (
+	itself  = -1
+	several = -2
+)
 
 // rule is what may stand, and what may stand behind that any number of times.
 type rule struct{ begin, behind []alternative }
+
+// Rules are rules by their names.
+type Rules map[string]rule
 
 func one(kind int, s, items string) []alternative {
 	return []alternative{{kind, s, strings.Fields(items)}}
@@ -40,25 +46,25 @@ func each(kind int, items string, signs ...string) []alternative {
 	return l
 }
 
-// rows have an item any number of times, up to so many, with commas between.
-func rows(kind int, begin, item, end string, most int) []alternative {
-	l := one(kind, "", begin+" "+end)
+// inRow have an item any number of times, up to so many, with commas between.
+func inRow(kind int, s, begin, item, end string, most int) []alternative {
+	l := one(kind, s, begin+" "+end)
 	for n := range most {
-		l = append(l, one(kind, "", begin+" "+item+strings.Repeat(" ', "+item, n)+" "+end)...)
+		l = append(l, one(kind, s, begin+" "+item+strings.Repeat(" ', "+item, n)+" "+end)...)
 	}
 	return l
 }
 
-// rulesOf are all rules, where no list has more things than so many.
-func rulesOf(most int) map[string]rule {
+// RulesOf are all rules, where no list has more things than so many.
+func RulesOf(most int) Rules {
 	tests := each(19, "* sum", "<", "<=", ">", ">=")
-	return map[string]rule{
+	return Rules{
 		"expr": {begin: slices.Concat(
 			one(11, "", "'if^ expr 'then expr 'else expr"),
 			one(12, "", "'for^ WORDS 'in expr 'return +S expr"),
 			one(13, "", "'some^ WORDS 'in expr 'satisfies +S expr"),
 			one(14, "", "'every^ WORDS 'in expr 'satisfies +S expr"),
-			rows(15, "'function^ '(^", "PARAM", "')v +NAMES expr", most),
+			inRow(15, "", "'function^ '(^", "PARAM", "')v +NAMES expr", most),
 			one(itself, "", "or"))},
 		"or":  {one(itself, "", "and"), each(5, "* and", "or")},
 		"and": {one(itself, "", "cond"), each(5, "* cond", "and")},
@@ -67,23 +73,27 @@ func rulesOf(most int) map[string]rule {
 			each(5, "sum * sum", "=", "!=", "<", "<=", ">", ">="),
 			one(6, "", "sum 'between sum 'and sum"),
 			one(7, "", "sum 'in test"))},
-		"test":         {begin: append(one(itself, "", "sum"), tests...)},
-		"test or expr": {begin: append(one(itself, "", "expr"), tests...)},
-		"sum":          {one(itself, "", "term"), each(5, "* term", "+", "-")},
-		"term":         {one(itself, "", "power"), each(5, "* power", "*", "/")},
-		"power":        {one(itself, "", "minus"), one(5, "**", "'** minus")},
-		"minus":        {begin: append(one(itself, "", "tight"), one(4, "", "'- minus")...)},
+		"test": {begin: append(one(itself, "", "sum"), tests...)},
+		"part": {begin: append(one(itself, "", "expr"), tests...)},
+		"tests": {begin: slices.Concat(
+			one(several, "any", "'- END"),
+			inRow(several, "none of", "'not '(", "part", "') END", most)[1:],
+			inRow(several, "", "", "part", "END", most)[1:])},
+		"sum":   {one(itself, "", "term"), each(5, "* term", "+", "-")},
+		"term":  {one(itself, "", "power"), each(5, "* power", "*", "/")},
+		"power": {one(itself, "", "minus"), one(5, "**", "'** minus")},
+		"minus": {begin: append(one(itself, "", "tight"), one(4, "", "'- minus")...)},
 		"tight": {one(itself, "", "first"), slices.Concat(
 			one(8, "", "'. WORDS"),
 			one(9, "", "'[^ +item expr ']"),
-			rows(10, "'(^", "expr", "')", most))},
+			inRow(10, "", "'(^", "expr", "')", most))},
 		"first": {begin: slices.Concat(
 			one(0, "", "NUM"), one(1, "", "STR"), each(2, "*", "true", "false", "null"), one(3, "", "NAME"),
 			one(itself, "", "'(^ expr ')"),
 			one(18, "()", "'(^ expr '.. expr ')"), one(18, "(]", "'(^ expr '.. expr ']"),
 			one(18, "[]", "'[^ expr '.. expr ']"), one(18, "[)", "'[^ expr '.. expr ')"),
-			rows(16, "'[^", "expr", "']", most),
-			rows(17, "'{^", "PARAM ': +AHEAD expr", "'}", most))},
+			inRow(16, "", "'[^", "expr", "']", most),
+			inRow(17, "", "'{^", "PARAM ': +AHEAD expr", "'}", most))},
 	}
 }
 
@@ -121,7 +131,7 @@ type tried struct {
 
 type oracle struct {
 	tokens []api.Lex
-	rules  map[string]rule
+	rules  Rules
 	known  map[tried][]result
 	worst  fault
 }
@@ -175,6 +185,8 @@ func (o *oracle) try(a alternative, first int, r run) []result {
 		switch {
 		case a.kind == itself:
 			l = append(l, result{r.x.L[0], r.deep, r.next})
+		case a.kind == several:
+			l = append(l, result{r.x, r.deep, r.next})
 		case r.deep >= 200:
 			o.fail(r.next, ahead, at, api.ErrDeep)
 		default:
@@ -194,6 +206,8 @@ func (o *oracle) step(item string, at int, r run) []run {
 		return o.literal(item, r)
 	case "NAME", "WORDS", "PARAM":
 		return o.words(item, r)
+	case "END":
+		return o.end(r)
 	case "+S":
 		return o.bring(at, r, r.x.S)
 	case "+item":
@@ -230,6 +244,13 @@ func (o *oracle) sign(s string, r run) []run {
 		return nil
 	}
 	r.next++
+	return []run{r}
+}
+
+func (o *oracle) end(r run) []run {
+	if o.tokens[r.next].Kind != api.Finish {
+		return o.refuse(r)
+	}
 	return []run{r}
 }
 
@@ -295,8 +316,8 @@ func (o *oracle) bring(at int, r run, more ...string) []run {
 	return []run{r}
 }
 
-// toldNext is what Expr or Test must answer where so many tokens were passed, and how many are passed then.
-func toldNext(rules map[string]rule, name string, tokens []api.Lex, passed int, names []string) (api.Expr, int, int, api.Errno) {
+// ToldNext is what is read by a rule where so many tokens were passed, and how many are passed then.
+func ToldNext(rules Rules, name string, tokens []api.Lex, passed int, names []string) (api.Expr, int, int, api.Errno) {
 	o := oracle{tokens: tokens, rules: rules, known: map[tried][]result{}}
 	names = slices.Sorted(slices.Values(names))
 	longest := result{next: -1}
@@ -315,11 +336,17 @@ func toldNext(rules map[string]rule, name string, tokens []api.Lex, passed int, 
 	return longest.x, tokens[longest.next].At, longest.next, api.OK
 }
 
-// toldParse is what Parse must answer of tokens.
-func toldParse(rules map[string]rule, tokens []api.Lex, names []string) (api.Expr, int, api.Errno) {
-	x, at, passed, e := toldNext(rules, "expr", tokens, 0, names)
+// ToldParse is the expression that tokens are, or where they are wrong.
+func ToldParse(rules Rules, tokens []api.Lex, names []string) (api.Expr, int, api.Errno) {
+	x, at, passed, e := ToldNext(rules, "expr", tokens, 0, names)
 	if e == api.OK && passed < len(tokens)-1 {
 		return api.Expr{}, at, api.ErrSyntax
 	}
 	return x, at, e
+}
+
+// ToldTests are the tests that tokens are, or where they are wrong.
+func ToldTests(rules Rules, tokens []api.Lex, names []string) (api.Tests, int, api.Errno) {
+	x, at, _, e := ToldNext(rules, "tests", tokens, 0, names)
+	return api.Tests{Any: x.S == "any", Not: x.S == "none of", L: x.L}, at, e
 }
