@@ -98,6 +98,21 @@ func AnyExpr(pick func(int) int, deep int, part func(deep int) api.Expr) api.Exp
 	return x
 }
 
+// AnyTests are right tests, if the parts are; pick as in AnyExpr.
+func AnyTests(pick func(int) int, part func(deep int) api.Expr) api.Tests {
+	var t api.Tests
+	for range pick(5) {
+		x := part(1 + pick(4))
+		if pick(3) == 0 {
+			x = Of(api.TestExpr, oneOf(pick, TestSigns()...), x)
+		}
+		t.L = append(t.L, x)
+	}
+	t.Any = len(t.L) == 0
+	t.Not = !t.Any && pick(3) == 0
+	return t
+}
+
 // anyAlone is a right expression of a kind, with as many parts as it may have.
 func anyAlone(pick func(int) int, kind int) api.Expr {
 	x := RightExprs()[kind]

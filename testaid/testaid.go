@@ -61,6 +61,18 @@ func Expr(x api.Expr) string {
 	return strconv.Itoa(x.Kind) + strconv.Quote(x.S) + row("[", names, "]") + row("(", parts, ")")
 }
 
+// Tests is all of some tests as a text.
+func Tests(t api.Tests) string {
+	s := ""
+	if t.Any {
+		s += "any "
+	}
+	if t.Not {
+		s += "none of "
+	}
+	return s + Expr(List(t.L...))
+}
+
 func name(n api.Name) string {
 	if n.Space == "" {
 		return n.Local

@@ -171,19 +171,9 @@ func TestSame(t *testing.T) {
 
 // anyTests are right tests by chance.
 func anyTests(r *rand.Rand) api.Tests {
-	var x api.Tests
 	var part func(deep int) api.Expr
 	part = func(deep int) api.Expr { return testaid.AnyExpr(r.Intn, deep, part) }
-	for range r.Intn(5) {
-		y := part(1 + r.Intn(4))
-		if r.Intn(3) == 0 {
-			y = of(api.TestExpr, testaid.TestSigns()[r.Intn(4)], y)
-		}
-		x.L = append(x.L, y)
-	}
-	x.Any = len(x.L) == 0
-	x.Not = len(x.L) > 0 && r.Intn(3) == 0
-	return x
+	return testaid.AnyTests(r.Intn, part)
 }
 
 // free are the names that must be in scope of tests.

@@ -19,6 +19,7 @@ import (
 var (
 	of, name, num = testaid.Of, testaid.Name, testaid.Num
 	list, chain   = testaid.List, testaid.Chain
+	whole         = testaid.Tests
 	rules         = testaid.RulesOf(6)
 	none          = api.Tests{}
 )

@@ -8,7 +8,6 @@ import (
 	"tipstave/expr"
 	"tipstave/feelprint"
 	"tipstave/scope"
-	"tipstave/testaid"
 )
 
 // What the calls must answer, by the chapter's sentences; of Parse testaid tells it.
@@ -57,18 +56,6 @@ func toldScoped(t api.Tests, names *scope.Scope) api.Errno {
 		}
 	}
 	return told
-}
-
-// whole is all of some tests as a text.
-func whole(t api.Tests) string {
-	s := ""
-	if t.Any {
-		s += "any "
-	}
-	if t.Not {
-		s += "none of "
-	}
-	return s + testaid.Expr(list(t.L...))
 }
 
 func shown(t api.Tests) string {
